@@ -1,0 +1,1 @@
+"""Ratehall: works, belts, rounds and rooms."""
