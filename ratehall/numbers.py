@@ -1,4 +1,4 @@
-"""Divisors and multiples of whole numbers, and ratios, of any length."""
+"""Whole numbers of any length: divisors, multiples, ratios, and what counts as one."""
 
 
 def divisor(one, other):
@@ -25,3 +25,17 @@ def times(one, other):
 
 def turned(one):
     return (one[1], one[0])
+
+
+def is_whole(thing):
+    # True and False are ints to Python, but no whole numbers here.
+    return isinstance(thing, int) and not isinstance(thing, bool)
+
+
+def is_from(thing, least):
+    return is_whole(thing) and thing >= least
+
+
+def is_number_below(thing, bound):
+    # Asked ahead of an index: below 0 a list would count from its end.
+    return is_from(thing, 0) and thing < bound

@@ -2,7 +2,7 @@ import unittest
 from fractions import Fraction
 from math import gcd, lcm
 
-from ratehall.numbers import divisor, multiple, ratio, times, turned
+from ratehall.numbers import divisor, is_from, is_number_below, is_whole, multiple, ratio, times, turned
 
 # Two of thirty figures without a common divisor but 1, and one more to put into both.
 THIRTY_A = 2 ** 99
@@ -225,6 +225,34 @@ class TestTurned(RatioCase):
                 self.check_ratio(turned(one), one[1], one[0])
                 self.check_ratio(times(one, turned(one)), 1, 1)
                 self.check_ratio(times(turned(one), one), 1, 1)
+
+
+class TestWhole(unittest.TestCase):
+    OTHER_THINGS = (None, True, False, "", "0", "1", 1.0, b"1", [], [1], (), (1,), {}, {1: 1}, object(), int)
+
+    def test_ints_are_whole_numbers(self):
+        for number in (0, 1, -1, THIRTY_A, -THIRTY_A, 10 ** 6000):
+            self.assertIs(is_whole(number), True)
+
+    def test_truths_and_other_things_are_none(self):
+        for thing in self.OTHER_THINGS:
+            with self.subTest(thing=repr(thing)):
+                self.assertIs(is_whole(thing), False)
+                self.assertIs(is_from(thing, 0), False)
+                self.assertIs(is_from(thing, 1), False)
+                self.assertIs(is_number_below(thing, 5), False)
+
+    def test_from_a_number_on(self):
+        for least in (0, 1, THIRTY_A):
+            self.assertIs(is_from(least, least), True)
+            self.assertIs(is_from(least + 1, least), True)
+            self.assertIs(is_from(least - 1, least), False)
+            self.assertIs(is_from(-10 ** 6000, least), False)
+
+    def test_below_a_number(self):
+        told = [is_number_below(number, 3) for number in (-10 ** 6000, -3, -1, 0, 1, 2, 3, 4, 10 ** 6000)]
+        self.assertEqual(told, [False, False, False, True, True, True, False, False, False])
+        self.assertIs(is_number_below(0, 0), False)
 
 
 class TestHandedIn(unittest.TestCase):

@@ -14,8 +14,8 @@ class TestNoClockChanceOrFiles(unittest.TestCase):
 
     def test_the_modules_are_there(self):
         names = [name for name, tree in trees()]
-        for name in ("__init__.py", "errors.py", "names.py", "numbers.py"):
-            self.assertIn(name, names)
+        for name in ("__init__", "errors", "numbers", "names", "hall", "pieces", "rates", "floor"):
+            self.assertIn(name + ".py", names)
 
     def test_only_modules_of_the_package_are_imported(self):
         for name, tree in trees():
