@@ -80,6 +80,16 @@ class Hall:
             raise NoBelt("no belt of this hall has this number")
 
 
+def hall_of(names, rows):
+    """A hall of works called so and of belts told as tuples, which may be more than can be put one by one."""
+    hall = Hall()
+    for name in names:
+        hall.work(name)
+    for row in rows:
+        hall.lay(row)
+    return hall
+
+
 def need_start(start):
     if not is_from(start, 0):
         raise NoRate("a start is a number from 0 on")

@@ -179,6 +179,19 @@ class TestLanguage(unittest.TestCase):
                     if node.func.attr in ("items", "keys", "values"):
                         self.check(name, node, node in walked)
 
+    def test_sets_are_not_kept(self):
+        for name, text in texts():
+            tree = ast.parse(text)
+            used_at_once = []
+            for node in ast.walk(tree):
+                if isinstance(node, ast.Call) and isinstance(node.func, ast.Name) and node.func.id in ("sorted", "len"):
+                    used_at_once += node.args[:1] if not node.keywords else []
+                if isinstance(node, ast.Compare):
+                    used_at_once += [node.left] + node.comparators
+            for node in ast.walk(tree):
+                if isinstance(node, ast.Call) and isinstance(node.func, ast.Name) and node.func.id in ("set", "frozenset"):
+                    self.check(name, node, node in used_at_once)
+
 
 if __name__ == "__main__":
     unittest.main()
