@@ -147,6 +147,23 @@ class TestLanguage(unittest.TestCase):
         for name, node in stored + nodes(ast.arg):
             self.check(name, node, bound_names(node)[0] not in dir(builtins))
 
+    def test_no_local_is_called_like_a_class_or_an_import_of_its_file(self):
+        for name, text in texts():
+            tree = ast.parse(text)
+            taken = [node.name for node in tree.body if isinstance(node, ast.ClassDef)]
+            taken += [alias.name for node in tree.body if isinstance(node, ast.ImportFrom) for alias in node.names]
+            for node in ast.walk(tree):
+                if isinstance(node, ast.arg) or isinstance(node, ast.Name) and isinstance(node.ctx, ast.Store):
+                    self.check(name, node, bound_names(node)[0] not in taken)
+
+    def test_errors_are_taken_by_name_and_made_on_the_spot(self):
+        own = [node.name for name, node in nodes(ast.ClassDef) if name == "errors.py"]
+        for name, node in nodes(ast.ExceptHandler):
+            self.check(name, node, isinstance(node.type, ast.Name) and node.type.id in own)
+        for name, node in nodes(ast.Raise):
+            made = isinstance(node.exc, ast.Call) and isinstance(node.exc.func, ast.Name)
+            self.check(name, node, made and node.exc.func.id in own)
+
     def test_methods_and_values(self):
         methods = set()
         for name, node in nodes(ast.ClassDef):

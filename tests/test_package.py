@@ -14,8 +14,8 @@ class TestNoClockChanceOrFiles(unittest.TestCase):
 
     def test_the_modules_are_there(self):
         names = [name for name, tree in trees()]
-        for name in ("__init__", "errors", "numbers", "names", "hall", "pieces", "rates", "floor", "rounds", "rooms", "least",
-                     "joins"):
+        for name in ("__init__", "errors", "numbers", "names", "hall", "pieces", "rates", "floor", "rounds", "rooms",
+                     "least", "joins", "mill", "code", "notes", "desk"):
             self.assertIn(name + ".py", names)
 
     def test_only_modules_of_the_package_are_imported(self):
